@@ -1,0 +1,1 @@
+"""Judges programs that write texts which hands edit, and keeps the edits of such texts."""
