@@ -5,7 +5,7 @@ from handkept.reading import ProgramReader
 
 
 class Program:
-    """A program, read from its text."""
+    """A program, read from its text. parts are its passes, as handkept/reading.py tells their statements."""
 
     def __init__(self, text):
         if not isinstance(text, str):

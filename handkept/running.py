@@ -24,8 +24,8 @@ def _worths(tokens, words):
 
 
 def _branch(statement, cells, words):
-    sort, asked, worth, then, other = statement
-    if sort == "cell":
+    form, asked, worth, then, other = statement
+    if form == "cell":
         holds = cells[asked] == worth
     else:
         kind, place = asked

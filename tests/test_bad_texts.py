@@ -41,10 +41,11 @@ class Refused(unittest.TestCase):
         self.assertEqual(wrong_line("kind a\npass\n\n"), 3)
 
     def test_missing_lines(self):
-        self.refused("kind a", "kind a|  field x", "kind a|pass|  begin", "kind a|pass|  open a", "kind a|pass|  close a",
-                     "kind a|pass|  end", "kind a|pass|  open a|    if a.key is w", "kind a|pass|pass|  end",
-                     "kind a|pass|  open a|    if a.key is w|      line l w|    else",
-                     "kind a|pass|  open a|    if a.key is w|      if a.key is w")
+        self.refused(
+            "kind a", "kind a|  field x", "kind a|pass|  begin", "kind a|pass|  open a", "kind a|pass|  close a",
+            "kind a|pass|  end", "kind a|pass|  open a|    if a.key is w", "kind a|pass|pass|  end",
+            "kind a|pass|  open a|    if a.key is w|      line l w|    else",
+            "kind a|pass|  open a|    if a.key is w|      if a.key is w")
 
     def test_blanks(self):
         self.refused("* kind a|pass", "*  kind a|pass", "*kind  a|pass", "*kind a |pass", "kind a|*pass |  end",
@@ -68,10 +69,11 @@ class Refused(unittest.TestCase):
                      "kind a|pass|  begin|    line l w|*end|    line m w")
 
     def test_kinds(self):
-        self.refused("*kind|pass", "*kind a b|pass", "*kind a in|pass", "kind a|*kind b in a c|pass",
-                     "kind a|*kind b of a|pass", "*kind a in a|pass", "*kind b in a|kind a|pass", "kind a|*kind b in c|pass",
-                     "kind a|*kind a|pass", "kind a|kind b|*kind a in b|pass", "*kind A|pass", "*kind a1|pass", "*kind -|pass",
-                     "*kind a.b|pass", "kind a|*kind b in -|pass")
+        self.refused(
+            "*kind|pass", "*kind a b|pass", "*kind a in|pass", "kind a|*kind b in a c|pass",
+            "kind a|*kind b of a|pass", "*kind a in a|pass", "*kind b in a|kind a|pass", "kind a|*kind b in c|pass",
+            "kind a|*kind a|pass", "kind a|kind b|*kind a in b|pass", "*kind A|pass", "*kind a1|pass",
+            "*kind -|pass", "*kind a.b|pass", "kind a|*kind b in -|pass")
 
     def test_kinds_behind_a_pass(self):
         self.refused("kind a|pass|*kind b", "kind a|pass|  begin|    line l w|*kind b|pass", "kind a|pass|*  kind b")
@@ -95,7 +97,9 @@ class Refused(unittest.TestCase):
         ahead = "kind a|  field x|pass|  cell c 2|  cell d 3|  open a|"
         for wrong in ("set c 2", "set d 3", "set e 0", "set c", "set c 0 1", "set c 00", "set c -1", "set c x",
                       "set a.x 0", "set 0 c", "set c = 1", "if c = 2", "if d = 3", "if e = 0", "if c is w", "if c = w",
-                      "if c 0", "if c = 0 1", "if = c 0", "if c == 0", "if a.x = 0", "if a.x = w", "if c", "if"):
+                      "if c 0", "if c = 0 1", "if = c 0", "if c == 0", "if a.x = 0", "if a.x = w", "if a.x was w",
+                      "if a.x == w", "if a.x is 0",
+                      "put c 0", "Set c 0", "if c", "if"):
             self.refused(f"{ahead}*    {wrong}|      line l w")
 
     def test_cells_are_those_of_this_pass(self):
@@ -144,49 +148,61 @@ class Refused(unittest.TestCase):
                      f"{lower}        line m w|      else|*        if a.key is w|          line n w")
 
     def test_tokens(self):
-        self.refused("kind a|pass|  begin|*    line l", "kind a|pass|  begin|*    line", "kind a|pass|  begin|*    head l -",
-                     "kind a|pass|  begin|*    head l", "kind a|pass|  begin|*    line l a b c d e f g",
-                     "kind a|pass|  begin|*    head l - a b c d e f g", "kind a|pass|  begin|*    line l A",
-                     "kind a|pass|  begin|*    line l a1", "kind a|pass|  begin|*    line l -",
-                     "kind a|pass|  begin|*    line l a.", "kind a|pass|  begin|*    line l a,b",
-                     "kind a|pass|  begin|*    head l w w", "kind a|pass|  begin|*    line L w", "kind a|pass|  begin|*    line - w",
-                     "kind a|pass|  begin|*    head - - w", "kind a|pass|  begin|*    head - l w")
+        self.refused(
+            "kind a|pass|  begin|*    line l", "kind a|pass|  begin|*    line", "kind a|pass|  begin|*    head l -",
+            "kind a|pass|  begin|*    head l", "kind a|pass|  begin|*    line l a b c d e f g",
+            "kind a|pass|  begin|*    head l - a b c d e f g", "kind a|pass|  begin|*    line l A",
+            "kind a|pass|  begin|*    line l a1", "kind a|pass|  begin|*    line l -",
+            "kind a|pass|  begin|*    line l a.", "kind a|pass|  begin|*    line l a,b",
+            "kind a|pass|  begin|*    head l w w", "kind a|pass|  begin|*    line L w",
+            "kind a|pass|  begin|*    line - w", "kind a|pass|  begin|*    head - - w",
+            "kind a|pass|  begin|*    head - l w")
 
     def test_letters(self):
         nine = "abcdefghi"
-        self.refused(f"*kind {nine}|pass", f"kind a|*  field {nine}|pass", f"kind a|pass|*  cell {nine} 2",
-                     f"kind a|pass|  begin|*    line {nine} w", f"kind a|pass|  begin|*    line l {nine}",
-                     f"kind a|pass|  begin|*    head {nine} - w", f"kind a|pass|  begin|*    head l - {nine}",
-                     f"kind a|pass|  open a|*    if a.key is {nine}|      line l w", f"kind a|*kind b in {nine}|pass",
-                     "kind a|pass|  open a|*    if a.key is W|      line l w", "kind a|pass|  open a|*    if a.key is a.key|      line l w")
+        self.refused(
+            f"*kind {nine}|pass", f"kind a|*  field {nine}|pass", f"kind a|pass|*  cell {nine} 2",
+            f"kind a|pass|  begin|*    line {nine} w", f"kind a|pass|  begin|*    line l {nine}",
+            f"kind a|pass|  begin|*    head {nine} - w", f"kind a|pass|  begin|*    head l - {nine}",
+            f"kind a|pass|  open a|*    if a.key is {nine}|      line l w", f"kind a|*kind b in {nine}|pass",
+            "kind a|pass|  open a|*    if a.key is W|      line l w",
+            "kind a|pass|  open a|*    if a.key is a.key|      line l w")
 
     def test_blocks_with_nothing_below_them(self):
-        self.refused("kind a|pass|  begin|*  end|    line l w", "kind a|pass|  begin|*pass", "kind a|pass|  open a|*  close a|    line l w",
-                     "kind a|pass|  begin|*line l w", "kind a|pass|  begin|*  line l w", "kind a|pass|  begin|*      line l w",
-                     "kind a|pass|  open a|    if a.key is w|*    line l w", "kind a|pass|  open a|    if a.key is w|*    else|      line l w",
-                     "kind a|pass|  open a|    if a.key is w|*  close a|    line l w",
-                     "kind a|pass|  open a|    if a.key is w|      line l w|    else|*    line m w",
-                     "kind a|pass|  open a|    if a.key is w|      line l w|    else|*pass")
+        self.refused(
+            "kind a|pass|  begin|*  end|    line l w", "kind a|pass|  begin|*pass",
+            "kind a|pass|  open a|*  close a|    line l w", "kind a|pass|  begin|*line l w",
+            "kind a|pass|  begin|*  line l w", "kind a|pass|  begin|*      line l w",
+            "kind a|pass|  open a|    if a.key is w|*    line l w",
+            "kind a|pass|  open a|    if a.key is w|*    else|      line l w",
+            "kind a|pass|  open a|    if a.key is w|*  close a|    line l w",
+            "kind a|pass|  open a|    if a.key is w|      line l w|    else|*    line m w",
+            "kind a|pass|  open a|    if a.key is w|      line l w|    else|*pass")
 
     def test_too_deep_and_not_deep_enough(self):
-        self.refused("kind a|*  pass", "kind a|pass|*begin|    line l w", "kind a|pass|*    begin|      line l w",
-                     "kind a|pass|  begin|    line l w|*      line m w", "kind a|pass|  begin|    line l w|*  line m w",
-                     "kind a|pass|  begin|    line l w|*line m w",
-                     "kind a|pass|  open a|    if a.key is w|*        line l w",
-                     "kind a|pass|  open a|    if a.key is w|      line l w|*        line m w")
+        self.refused(
+            "kind a|*  pass", "kind a|pass|*begin|    line l w", "kind a|pass|*    begin|      line l w",
+            "kind a|pass|  begin|    line l w|*      line m w", "kind a|pass|  begin|    line l w|*  line m w",
+            "kind a|pass|  begin|    line l w|*line m w",
+            "kind a|pass|  open a|    if a.key is w|*        line l w",
+            "kind a|pass|  open a|    if a.key is w|      line l w|*        line m w")
 
     def test_else(self):
         yes = "kind a|pass|  open a|    if a.key is w|      line l w|"
-        self.refused("kind a|pass|  begin|*    else|      line l w", "kind a|pass|  begin|    line l w|*    else|      line m w",
-                     f"{yes}    else|      line m w|*    else|      line n w", f"{yes}*      else|        line m w",
-                     f"{yes}*  else|    line m w", f"{yes}*else", f"{yes}*    else w|      line m w",
-                     f"{yes}    line m w|*    else|      line n w", f"{yes}*    else if a.key is w|      line m w",
-                     f"{yes}  close a|*    else|      line m w")
+        self.refused(
+            "kind a|pass|  begin|*    else|      line l w",
+            "kind a|pass|  begin|    line l w|*    else|      line m w",
+            f"{yes}    else|      line m w|*    else|      line n w", f"{yes}*      else|        line m w",
+            f"{yes}*  else|    line m w", f"{yes}*else", f"{yes}*    else w|      line m w",
+            f"{yes}    line m w|*    else|      line n w", f"{yes}*    else if a.key is w|      line m w",
+            f"{yes}  close a|*    else|      line m w")
 
     def test_labels_that_do_not_differ(self):
-        self.refused("kind a|pass|  begin|    line l w|*    line l v", "kind a|pass|  begin|    line l w|*    head l - v",
-                     "kind a|pass|  begin|    line l w|  end|*    line l w", "kind a|pass|  begin|    line l w|pass|  begin|*    line l w",
-                     "kind a|pass|  open a|    if a.key is w|      line l w|    else|*      line l w")
+        self.refused(
+            "kind a|pass|  begin|    line l w|*    line l v", "kind a|pass|  begin|    line l w|*    head l - v",
+            "kind a|pass|  begin|    line l w|  end|*    line l w",
+            "kind a|pass|  begin|    line l w|pass|  begin|*    line l w",
+            "kind a|pass|  open a|    if a.key is w|      line l w|    else|*      line l w")
 
     def test_refs_and_heads_that_are_not_open(self):
         kinds = "kind a|  field x|kind b in a|  field y|kind c in a|kind d|pass"
@@ -195,12 +211,16 @@ class Refused(unittest.TestCase):
         for heading, kinds_near in near.items():
             for kind in "abcde":
                 if kind not in kinds_near:
-                    self.refused(f"{kinds}|  {heading}|*    line l {kind}.key", f"{kinds}|  {heading}|*    line l w {kind}.key",
-                                 f"{kinds}|  {heading}|*    head l {kind} w", f"{kinds}|  {heading}|*    head l - {kind}.key",
-                                 f"{kinds}|  {heading}|*    if {kind}.key is w|      line l w")
+                    self.refused(
+                        f"{kinds}|  {heading}|*    line l {kind}.key",
+                        f"{kinds}|  {heading}|*    line l w {kind}.key",
+                        f"{kinds}|  {heading}|*    head l {kind} w",
+                        f"{kinds}|  {heading}|*    head l - {kind}.key",
+                        f"{kinds}|  {heading}|*    if {kind}.key is w|      line l w")
 
     def test_refs_of_fields_that_there_are_not(self):
-        for ref in ("a.y", "a.z", "b.x", "a.", ".x", ".", "a.x.x", "a.key.x", "a..x", "a.Key", "a.X", "a:x", "b.key.", "-.x"):
+        for ref in ("a.y", "a.z", "b.x", "a.", ".x", ".", "a.x.x", "a.key.x", "a..x", "a.Key", "a.X", "a:x",
+                    "b.key.", "-.x"):
             self.refused(f"kind a|  field x|kind b in a|  field y|pass|  open b|*    line l {ref}",
                          f"kind a|  field x|kind b in a|  field y|pass|  open b|*    if {ref} is w|      line l w")
 

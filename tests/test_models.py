@@ -7,7 +7,8 @@ from handkept.programs import Program
 
 from tests.samples import ODD_VALUES, nested
 
-PROGRAM = Program("kind town\nkind shop in town\n  field owner\n  field ware\nkind item in shop\nkind road\n  field end\npass")
+PROGRAM = Program(
+    "kind town\nkind shop in town\n  field owner\n  field ware\nkind item in shop\nkind road\n  field end\npass")
 
 
 def town(key, *inner):
@@ -27,13 +28,17 @@ MODELS = (
     (town("rome", shop("a"), shop("b", ("item", ("i",), ()), ("item", ("j",), ()))),),
     # The same key by unlike kinds, in unlike rows, and in one another.
     (town("a"), ("road", ("a", "a"), ())),
-    (town("a", shop("a", ("item", ("a",), ()))), town("b", shop("a", ("item", ("a",), ())), shop("c", ("item", ("a",), ())))),
+    (town("a", shop("a", ("item", ("a",), ()))),
+     town("b", shop("a", ("item", ("a",), ())), shop("c", ("item", ("a",), ())))),
     # Words of 1 and of 8 letters, and words that are alike beside the key.
     (town("x"), town("abcdefgz"), ("road", ("zzzzzzzz", "a"), ()), ("road", ("a", "a"), ()), ("road", ("b", "a"), ())),
     (("town", ("a",), (("shop", ("key", "key", "key"), ()),)),),
 )
 
 ITEM = ("item", ("i",), ())
+
+NO_WORDS = (
+    "", "abcdefghi", "A", "Rome", "a1", "a b", " a", "a\n", "-", None, True, False, 0, 1, ("a",), ["a"], {}, {"a": 1})
 
 # What stands in the place of a record.
 NO_RECORDS = (
@@ -45,8 +50,7 @@ NO_RECORDS = (
     # Too few and too many words.
     ("town", (), ()), ("town", ("a", "b"), ()), ("road", ("a",), ()), ("road", ("a", "b", "c"), ()), ("road", (), ()),
     # What is no word, as a key and as a field.
-    *[("town", (word,), ()) for word in ("", "abcdefghi", "A", "Rome", "a1", "a b", " a", "a\n", "-", None, True, 0, ("a",), ["a"])],
-    *[("road", ("a", word), ()) for word in ("", "abcdefghi", "A", "Rome", "a1", "a b", "-", None, False, 1, ("a",), {})],
+    *[("town", (word,), ()) for word in NO_WORDS], *[("road", ("a", word), ()) for word in NO_WORDS],
     # Records that may not stand in this row.
     shop("a"), ITEM, ("town", ("a",), (town("b"),)), ("town", ("a",), (ITEM,)),
     ("town", ("a",), (("road", ("a", "b"), ()),)), ("road", ("a", "b"), (shop("a"),)), town("a", shop("b", shop("c"))),

@@ -25,11 +25,14 @@ def c(key):
 
 class Examples(unittest.TestCase):
     def test_the_example_of_the_document(self):
-        program = Program('\n'.join(['kind town', 'kind shop in town', '  field owner', 'pass', '  open town', '    line t town.key', '  open shop', '    line s shop.key shop.owner']))
+        program = Program('\n'.join([
+            'kind town', 'kind shop in town', '  field owner', 'pass', '  open town', '    line t town.key',
+            '  open shop', '    line s shop.key shop.owner']))
         model = (('town', ('rome',), (('shop', ('a', 'bo'), ()),)), ('town', ('pisa',), (('shop', ('a', 'cy'), ()),)))
         self.assertEqual(
             [text_of(program, model), written(program, model)[1][0], written(program, model)[2]],
-            ['rome\na bo\npisa\na cy', ('s', (('town', 'rome'), ('shop', 'a'))), (('t', (('town', 'pisa'),)), ('pisa',))])
+            ['rome\na bo\npisa\na cy', ('s', (('town', 'rome'), ('shop', 'a'))),
+             (('t', (('town', 'pisa'),)), ('pisa',))])
 
     def test_arguments_by_name(self):
         program = Program(TOWNS)
