@@ -16,15 +16,20 @@ def written(program, model):
         raise BadModel(model)
     lines = []
     for part in program.parts:
-        writing = Writing(part)
-        writing.go_through(model)
-        lines.extend(writing.lines)
+        lines.extend(lines_of_part(part, model))
     return tuple(lines)
 
 
 def text_of(program, model):
     """The text that the program writes of the model."""
     return "\n".join([" ".join(words) for _, words in written(program, model)])
+
+
+def lines_of_part(part, model):
+    """The list of (way, words) of the lines that one pass of a program writes."""
+    writing = Writing(part)
+    writing.go_through(model)
+    return writing.lines
 
 
 class Writing:
