@@ -1,7 +1,8 @@
 """The form of the members of a walk of two models."""
 
 from handkept.editwalks import AT_FIRST, there
-from handkept.values import is_ascending, is_integer, is_tuple_of
+from handkept.forms import has_cells, has_classes, has_used
+from handkept.values import is_integer, is_tuple_of
 
 
 class EditForm:
@@ -28,7 +29,7 @@ class EditForm:
         for ahead, row in zip(rows, rows[1:]):
             if not self.has_record(ahead[0], ahead[1], row):
                 return False
-        return all([self.has_used(row[1], row[4]) for row in rows])
+        return all([has_used(self.walk.sides, row[1], row[4]) for row in rows])
 
     def has_record(self, outer_which, outer, row):
         which, kind, elder, newer, _ = row
@@ -40,16 +41,6 @@ class EditForm:
             if not (has_classes(side, kind, words) if is_there else words == ()):
                 return False
         return True
-
-    def has_used(self, outer, used):
-        if not isinstance(used, tuple) or not all([is_tuple_of(name, 2) for name in used]):
-            return False
-        for kind, key in used:
-            if kind not in self.walk.inner[outer]:
-                return False
-            if not any([key in side.words_named((kind, 0)) for side in self.walk.sides]):
-                return False
-        return is_ascending(used)
 
     def has_state(self, state, rows):
         if not is_tuple_of(state, 6):
@@ -76,27 +67,3 @@ class EditForm:
     def has_bits(self, bits):
         many = sum(self.judge.passes) if self.judge.under else 0
         return is_tuple_of(bits, many) and all([isinstance(bit, bool) for bit in bits])
-
-
-def has_cells(program, value):
-    """Whether any value has, for each pass of a program, the worths of its cells."""
-    if not is_tuple_of(value, program.passes):
-        return False
-    return all([_has_worths(part.worths, worths) for part, worths in zip(program.parts, value)])
-
-
-def has_classes(side, kind, value):
-    """Whether any value has the classes of a record of this kind in a program, "" for what does not last."""
-    if not is_tuple_of(value, len(side.uses.fields[kind])):
-        return False
-    for place, word in enumerate(value):
-        ref = (kind, place)
-        if word != "" and (not side.lasts(ref) or word not in side.words_named(ref)):
-            return False
-    return True
-
-
-def _has_worths(worths, value):
-    if not is_tuple_of(value, len(worths)):
-        return False
-    return all([is_integer(worth) and 0 <= worth < many for worth, many in zip(value, worths)])

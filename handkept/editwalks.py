@@ -4,6 +4,7 @@ A member is (guess, rows, cells, state), as section 8 of the document tells it. 
 words of the newer), ("close",) or ("end",); words are the classes of a record.
 """
 
+from handkept.classes import rows_of_classes, used_with
 from handkept.sides import Hold, Side
 
 AT_FIRST = ("", "", (), (), ())
@@ -78,26 +79,25 @@ class EditWalk:
         found = []
         for kind in self.inner[outer]:
             for which in self.whiches(outer_which, kind):
-                for words, newer_words, key in self.records_of(which, kind):
-                    if key == "" or (kind, key) not in used:
-                        step = (which, kind, words, newer_words)
-                        now_used = used if key == "" else tuple(sorted([*used, (kind, key)]))
-                        outer_rows = rows[:-1] + ((outer_which, outer, elder, newer, now_used),)
-                        found.extend([(step, behind) for behind in self.opened_by(step, outer_rows, member)])
+                for step, own, key in self.records_of(which, kind):
+                    now_used = used_with(used, kind, key)
+                    if now_used is not None:
+                        ahead = rows[:-1] + ((outer_which, outer, elder, newer, now_used), own)
+                        found.extend([(step, behind) for behind in self.opened_by(step, ahead, member)])
         return found
 
     def opened_by(self, step, rows, member):
+        """The list of the members with these rows that come by this step."""
         which, kind, elder, newer = step
-        _, _, cells, state = member
-        words = (words_of(rows[1:], 2) + (elder,), words_of(rows[1:], 3) + (newer,))
-        own = (which, kind, self.sides[0].lasting_words(kind, elder), self.sides[1].lasting_words(kind, newer), ())
+        _, outer_rows, cells, state = member
+        words = (words_of(outer_rows[1:], 2) + (elder,), words_of(outer_rows[1:], 3) + (newer,))
         states = [state]
         if state[0] == "before" and kind == self.judge.kind and which != "come":
             states.append(("open",) + state[1:])
         found = []
         for ahead in states:
             behind = self.behind(("open", kind), there(which), words, cells, ahead)
-            found.extend(self.members(rows + (own,), behind))
+            found.extend(self.members(rows, behind))
         return found
 
     def whiches(self, outer_which, kind):
@@ -107,20 +107,20 @@ class EditWalk:
         return ["both"] + [which for which, leave in (("gone", "go"), ("come", "come")) if (leave, kind) in self.sheet]
 
     def records_of(self, which, kind):
-        """All (words, words of the newer, key) of such records, key that of one of both that is not ""."""
+        """All (step, row that is opened, key) of such records; key is that of one of both that is not ""."""
         if (which, kind) not in self.records:
             self.records[(which, kind)] = self.records_anew(which, kind)
         return self.records[(which, kind)]
 
     def records_anew(self, which, kind):
-        pairs = [()]
-        for place in range(len(self.fields[kind])):
-            pairs = [ahead + (pair,) for ahead in pairs for pair in self.classes(which, kind, place)]
+        sorts = [self.classes(which, kind, place) for place in range(len(self.fields[kind]))]
+        elder_side, newer_side = self.sides
         records = []
-        for row in pairs:
+        for row in rows_of_classes(sorts):
             elder = tuple([pair[0] for pair in row]) if which != "come" else ()
             newer = tuple([pair[1] for pair in row]) if which != "gone" else ()
-            records.append((elder, newer, row[0][0] or row[0][1]))
+            own = (which, kind, elder_side.lasting_words(kind, elder), newer_side.lasting_words(kind, newer), ())
+            records.append(((which, kind, elder, newer), own, row[0][0] or row[0][1]))
         return records
 
     def classes(self, which, kind, place):

@@ -96,6 +96,6 @@ def met(fits, front, rear):
 
 
 def changed_bits(bits, place, title):
-    if not bits or title is None:
+    if title is None:
         return bits
     return bits[:place] + (title,) + bits[place + 1:]

@@ -1,12 +1,14 @@
 """Members of walks: all that come, and whether a table is closed.
 
-walks is an object with guesses, walk_of(guess), which has first(), opened(member) and closed(member), and
-is_wanted(member).
+walks is an object with guesses, walk_by(guess) and walk_of(member), which have first(), opened(member) and
+closed(member), and is_wanted(member).
 """
 
 from handkept.errors import TooMany
 
 MOST_MEMBERS = 6000
+# Members of one guess stand together, in a level as in a table: so walks are not kept for long, as they grow large.
+MOST_WALKS = 50
 
 
 class Reach:
@@ -41,7 +43,7 @@ class Reach:
 
     def go_first(self):
         for guess in self.walks.guesses.each_guess():
-            walk = self.walks.walk_of(guess)
+            walk = self.walks.walk_by(guess)
             for member in walk.first():
                 self.add(walk, None, (), member)
             # So many guesses are there only for a line with REFs: no walk that opens no record has it.
@@ -52,7 +54,7 @@ class Reach:
         ahead = self.level
         self.level = []
         for member in ahead:
-            walk = self.walks.walk_of(member[0])
+            walk = self.walks.walk_of(member)
             for step, behind in walk.opened(member):
                 if behind not in self.came:
                     self.add(walk, member, step, behind)
@@ -64,18 +66,22 @@ class Reach:
     def add(self, walk, ahead, step, member):
         """Adds a member that came, and all that come of it by closing alone."""
         came = [(step, member)]
-        while came:
+        chain = []
+        while came and came[0][1] not in self.came:
             step, member = came[0]
-            if member in self.came:
-                return
-            self.came[member] = (ahead, step)
-            self.level.append(member)
-            if self.wanted is None and self.walks.is_wanted(member):
+            chain.append((member, (ahead, step)))
+            if self.walks.is_wanted(member):
                 self.wanted = member
             ahead = member
             came = walk.closed(member)
+        # If there are too many without a wanted one, no other level is walked: these need not be kept.
+        if self.wanted is not None or len(self.came) <= MOST_MEMBERS:
+            for member, way in chain:
+                self.came[member] = way
+                self.level.append(member)
 
     def table(self):
+        """All members that came, ascending."""
         return tuple(sorted(list(self.came)))
 
     def steps_to(self, member):
@@ -92,11 +98,11 @@ def is_closed(walks, table):
     """Whether a table of members by their form has the first ones and all that come of its members."""
     members = {member: True for member in table}
     for guess in walks.guesses.each_guess():
-        first = walks.walk_of(guess).first()
+        first = walks.walk_by(guess).first()
         if not all([member in members for member in first]):
             return False
     for member in table:
-        walk = walks.walk_of(member[0])
+        walk = walks.walk_of(member)
         if not all([behind in members for _, behind in walk.opened(member) + walk.closed(member)]):
             return False
     return True

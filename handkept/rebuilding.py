@@ -68,6 +68,10 @@ class RebuiltModels:
             if words:
                 row.append((kind, words, tuple(own)))
 
+    def finish_all(self):
+        while self.records:
+            self.finish()
+
     def words_of(self, kind, elder, newer):
         if not newer:
             return (self.words_by(elder), ())

@@ -7,7 +7,7 @@ from handkept.errors import BadLabel, BadPrograms, BadRule, BadSheet, BadWish
 from handkept.guesses import Guesses
 from handkept.judging import Judge
 from handkept.models import is_model
-from handkept.reaching import Reach, is_closed
+from handkept.reaching import MOST_WALKS, Reach, is_closed
 from handkept.rebuilding import OtherWords, RebuiltModels
 from handkept.sheets import is_change, is_sheet
 from handkept.uses import Uses
@@ -18,7 +18,8 @@ WRONG_FATES = {"kept": ("lost", "astray"), "true": ("astray",)}
 
 def stays(elder, newer, sheet, label, rule, wish):
     """("always", table), or ("wrong", elder_model, newer_model, way, fate) with the fewest records."""
-    check_asked(elder, newer, sheet, label, rule, wish)
+    check_programs(elder, newer)
+    check_asked(elder, elder.labels, sheet, label, rule, wish)
     walks = EditWalks(elder, newer, sheet, label, rule, wish)
     reach = Reach(walks, False)
     reach.go()
@@ -29,7 +30,8 @@ def stays(elder, newer, sheet, label, rule, wish):
 
 def shows_stays(elder, newer, sheet, label, rule, wish, value):
     """Whether any value is such a result of stays, right by itself."""
-    check_asked(elder, newer, sheet, label, rule, wish)
+    check_programs(elder, newer)
+    check_asked(elder, elder.labels, sheet, label, rule, wish)
     if is_tuple_of(value, 2) and value[0] == "always":
         return is_always(elder, newer, sheet, label, rule, wish, value[1])
     if is_tuple_of(value, 5) and value[0] == "wrong":
@@ -37,17 +39,25 @@ def shows_stays(elder, newer, sheet, label, rule, wish, value):
     return False
 
 
-def check_asked(elder, newer, sheet, label, rule, wish):
-    """Refuses what cannot be asked."""
+def check_programs(elder, newer):
+    """Refuses programs of other kinds."""
     if elder.kinds != newer.kinds:
         raise BadPrograms((elder, newer))
-    if not is_sheet(elder, sheet):
-        raise BadSheet(sheet)
-    if label not in elder.labels:
+
+
+def check_asked(program, labels, sheet, label, rule, wish):
+    """Refuses what cannot be asked of programs with these kinds and labels."""
+    check_sheet(program, sheet)
+    if label not in labels:
         raise BadLabel(label)
     if not is_rule(rule):
         raise BadRule(rule)
     check_wish(wish)
+
+
+def check_sheet(program, sheet):
+    if not is_sheet(program, sheet):
+        raise BadSheet(sheet)
 
 
 def check_wish(wish):
@@ -91,8 +101,13 @@ class EditWalks:
         self.guesses = Guesses(self.several, self.judge.tokens, rule)
         self.walks = {}
 
-    def walk_of(self, guess):
+    def walk_of(self, member):
+        return self.walk_by(member[0])
+
+    def walk_by(self, guess):
         if guess not in self.walks:
+            if len(self.walks) == MOST_WALKS:
+                self.walks = {}
             self.walks[guess] = EditWalk(guess, self.programs, self.several, self.sheet, self.rule, self.judge)
         return self.walks[guess]
 
@@ -104,8 +119,8 @@ class EditWalks:
         """Whether any value is a member by its form."""
         if not is_tuple_of(value, 4) or not self.guesses.has(value[0]):
             return False
-        guess, rows, cells, state = value
-        return EditForm(self.walk_of(guess), self.judge).has(rows, cells, state)
+        _, rows, cells, state = value
+        return EditForm(self.walk_of(value), self.judge).has(rows, cells, state)
 
     def wrong_by(self, steps):
         """What goes wrong by these (step, member), the last of which is wrong."""

@@ -287,12 +287,56 @@ class PlainWalk:
         return found
 
     def table(self, most):
-        """The least closed table, None if it has more members than that."""
-        found = dict.fromkeys(self.first())
-        waiting = list(found)
-        while waiting and len(found) <= most:
-            for member in self.behind(waiting.pop()):
-                if member not in found:
-                    found[member] = True
-                    waiting.append(member)
-        return tuple(sorted(found)) if len(found) <= most else None
+        return table_of(self, most)
+
+
+class PlainTwins(PlainWalk):
+    """A walker of one model, by the words of section 11: whatever is held of elder is held of it."""
+
+    def __init__(self, program, label):
+        super().__init__(program, program, (), label, ("first", (), ""))
+
+    def member_of(self, words, rows, cells, seen, heading, records):
+        text = self.texts[0]
+        cells = [list(worths) for worths in cells]
+        worths = {ref: word for record in records for ref, word in zip(text.refs(record[0]), record[1])}
+        for label, _, told, _ in self.lines_of(text, heading, cells, worths):
+            if tuple(told) == words and seen.count(label) < 2:
+                seen = tuple(sorted(seen + (label,)))
+        return words, rows, tuple(tuple(worths) for worths in cells), seen
+
+    def first(self):
+        cells = [[0] * len(names) for names, _ in self.texts[0].passes]
+        return [self.member_of(words, (("", (), ()),), cells, (), ("begin",), []) for words, _ in self.guesses()]
+
+    def behind(self, member):
+        words, rows, cells, seen = member
+        if rows == ():
+            return []
+        outer, _, used = rows[-1]
+        if len(rows) == 1:
+            found = [self.member_of(words, (), cells, seen, ("end",), [])]
+        else:
+            found = [self.member_of(words, rows[:-1], cells, seen, ("close", outer), rows[1:])]
+        for kind, (within, _) in self.texts[0].kinds.items():
+            for own in itertools.product(*self.pairs((words, ""), "gone", kind)) if within == outer else []:
+                own = tuple(pair[0] for pair in own)
+                if (kind, own[0]) not in used:
+                    now_used = tuple(sorted(used + (((kind, own[0]),) if own[0] else ())))
+                    lasting = tuple(word if self.lasts(self.texts[0], ref, (words, "")) else ""
+                                    for word, ref in zip(own, self.texts[0].refs(kind)))
+                    ahead = (*rows[:-1], (*rows[-1][:2], now_used), (kind, lasting, ()))
+                    found.append(self.member_of(words, ahead, cells, seen, ("open", kind), [*rows[1:], (kind, own)]))
+        return found
+
+
+def table_of(walk, most):
+    """The least closed table, None if it has more members than that."""
+    found = dict.fromkeys(walk.first())
+    waiting = list(found)
+    while waiting and len(found) <= most:
+        for member in walk.behind(waiting.pop()):
+            if member not in found:
+                found[member] = True
+                waiting.append(member)
+    return tuple(sorted(found)) if len(found) <= most else None

@@ -30,6 +30,8 @@ TWICE = one_kind("open a", "  line l a.key", "pass", "open a", "  line m a.key a
 MOVED = one_kind("open a", "  line m a.key a.x", "pass", "open a", "  line l a.key")
 WITHOUT = one_kind("open a", "  line m a.key a.x")
 LONGER = one_kind("open a", "  line l a.key p")
+ABOVE = one_kind("begin", "  line h in rome now", "open a", "  line l a.key", "  line m a.x q in")
+AGAIN = one_kind("open a", "  line l a.x", "end", "  line e q", "pass", "open a", "  line m a.x", "end", "  line f r")
 
 ALL = (("come", "a"), ("go", "a"), ("turn", "a", "x"))
 COME, GO, TURN = ((leave,) for leave in ALL)
@@ -59,6 +61,11 @@ QUESTIONS = {
     "titles, all happens": ((TITLED, TITLED, (("come", "a"), ("go", "a")), "l", ("first", (), "in"), "kept"), "always"),
     "titles, without them": ((TITLED, TITLED, (("come", "a"), ("go", "a")), "l", WHOLE, "kept"), ("astray", 2)),
     "a title that is a word": ((TITLED, TITLED, COME, "h", ("first", (), "in"), "kept"), ("lost", 2)),
+    "titles of longer lines": ((ABOVE, ABOVE, GO, "l", ("first", (), "in"), "kept"), ("lost", 2)),
+    "titles of longer lines, words of three": ((ABOVE, ABOVE, GO, "m", ("only", (2,), "in"), "kept"), ("lost", 2)),
+    "a line in a later pass": ((AGAIN, AGAIN, COME + TURN, "l", WHOLE, "true"), ("astray", 1)),
+    "a line in an earlier pass": ((AGAIN, AGAIN, COME + TURN, "m", ("first", (0,), ""), "kept"), "always"),
+    "ends of both passes": ((AGAIN, AGAIN, GO, "l", ONLY, "true"), "always"),
     "heads": ((HEADED, HEADED, (("come", "b"),), "h", WHOLE, "kept"), ("astray", 3)),
     "heads that go": ((HEADED, HEADED, (("go", "b"),), "h", WHOLE, "true"), ("astray", 4)),
     "a head at the first record": ((TOLD, TOLD, ALL, "h", WHOLE, "kept"), "always"),

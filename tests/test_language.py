@@ -149,6 +149,28 @@ class Names(unittest.TestCase):
             self.assertNotIn(bound, vars(builtins), name)
             self.assertNotIn(bound, NO_NAMES, name)
 
+    def test_no_name_of_a_class_or_an_import_of_the_file(self):
+        for name, tree in trees():
+            taken = {alias.name for node in tree.body if isinstance(node, ast.ImportFrom) for alias in node.names}
+            taken |= {node.name for node in tree.body if isinstance(node, ast.ClassDef)}
+            for node in ast.walk(tree):
+                if isinstance(node, ast.arg):
+                    self.assertNotIn(node.arg, taken, (name, node.lineno))
+                if isinstance(node, ast.Name) and isinstance(node.ctx, ast.Store):
+                    self.assertNotIn(node.id, taken, (name, node.lineno))
+
+    def test_generators(self):
+        functions = [node for _, node in nodes(ast.FunctionDef)]
+        yielding = [node.name for node in functions if any(isinstance(part, ast.Yield) for part in ast.walk(node))]
+        for name in yielding:
+            self.assertEqual([node.name for node in functions].count(name), 1, name)
+        for name, tree in trees():
+            iterated = [node.iter for node in ast.walk(tree) if isinstance(node, (ast.For, ast.comprehension))]
+            for node in ast.walk(tree):
+                if isinstance(node, ast.Call):
+                    called = getattr(node.func, "attr", None) or getattr(node.func, "id", None)
+                    self.assertTrue(called not in yielding or node in iterated, (name, node.lineno))
+
     def test_what_is_thrown_away_is_not_read(self):
         for name, node in nodes(ast.Name):
             self.assertFalse(node.id == "_" and isinstance(node.ctx, ast.Load), name)
@@ -186,6 +208,12 @@ class Code(unittest.TestCase):
                     self.assertFalse(any(isinstance(part, ast.GeneratorExp) for part in node.args), (name, node.lineno))
             if isinstance(node.func, ast.Attribute) and node.func.attr in METHODS:
                 self.assertEqual(node.keywords if node.func.attr != "sort" else [], [], (name, node.lineno))
+
+    def test_stars_of_calls_stand_before_names_and_attributes(self):
+        for name, node in nodes(ast.Call):
+            for part in node.args:
+                if isinstance(part, ast.Starred):
+                    self.assertIsInstance(part.value, (ast.Name, ast.Attribute), (name, node.lineno))
 
     def test_is_stands_beside_none_true_and_false(self):
         for name, node in nodes(ast.Compare):

@@ -26,6 +26,14 @@ class Told(unittest.TestCase):
         for name, (question, _) in QUESTIONS.items():
             self.assertIs(shows_stays(*question, stays(*question)), True, name)
 
+    def test_under_another_word(self):
+        for question, outcome in QUESTIONS.values():
+            told = stays(*question)
+            for word in ("always", "wrong", "", "Always", "none", None, True, ("always",)):
+                self.assertIs(shows_stays(*question, (word, *told[1:])), word == told[0])
+            self.assertIs(shows_stays(*question, told[1:]), False)
+            self.assertIs(shows_stays(*question, (*told, ())), False)
+
     def test_not_of_another_question(self):
         told = stays(KEYS, KEYS, ALL, "l", WHOLE, "kept")
         self.assertIs(shows_stays(KEYS, KEYS, ALL, "l", ONLY, "kept", told), False)
@@ -190,6 +198,21 @@ class Forms(unittest.TestCase):
         question = (ENDED, ENDED, GO, "t", WHOLE, "kept")
         self.check(question, [self.done(guess=(("p",), ""), state=("open", True, "fits", 0, 0, ()))],
                    [self.done(guess=(("p",), ""), state=(home, True, "fits", 0, 0, ())) for home in ("past", "before")])
+
+    def test_home_is_open_where_a_record_of_its_kind_is(self):
+        question = (TOWN, TOWN, (("turn", "shop", "owner"),), "t", WHOLE, "kept")
+        first, state = ("", "", (), (), ()), ("open", False, "", 0, 0, ())
+        towns = {"both": (("",), ("",)), "gone": (("",), ()), "come": ((), ("",))}
+        for which, words in towns.items():
+            member = self.done(rows=(first, (which, "town", *words, ())), state=state)
+            table = closed_with(question, stays(*question)[1], member)
+            self.assertIs(shows_stays(*question, ("always", table)), which != "come", which)
+        # Of the home of a shop none is open while there is a town alone.
+        question = (TOWN, TOWN, (), "s", WHOLE, "kept")
+        for state, shown in ((state, False), (("past", False, "", 0, 0, ()), True)):
+            member = self.done((("A", "B"), ""), (first, ("both", "town", *towns["both"], ())), state=state)
+            value = closed_with(question, stays(*question)[1], member)
+            self.assertIs(shows_stays(*question, ("always", value)), shown)
 
     def test_counts(self):
         # What counts is not wrong here: two lines that fit are none that is found.
