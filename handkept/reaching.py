@@ -34,8 +34,6 @@ class Reach:
         while self.level and self.wanted is None:
             self.refuse_too_many()
             self.go_on()
-        if self.wanted is None:
-            self.refuse_too_many()
 
     def refuse_too_many(self):
         if len(self.came) > MOST_MEMBERS:

@@ -219,6 +219,34 @@ class Shown(unittest.TestCase):
                 larger = (*table, member)
             self.assertIs(shows_twins(*question, (rows, larger)), False, member)
 
+    def closed_with(self, question, table, member):
+        walk = PlainTwins(*question)
+        with mock.patch.object(walk, "first", return_value=[*table, member]):
+            return table_of(walk, 5000)
+
+    def test_seen_is_sorted(self):
+        question = (LIKE, "m")
+        rows, table = twins(*question)
+        words, _, cells, _ = next(member for member in table if member[1] == ())
+        for seen, shown in ((("l", "n"), True), (("n", "l"), False), (("l", "l", "n"), True), (("l", "n", "l"), False)):
+            larger = self.closed_with(question, table, (words, (), cells, seen))
+            self.assertIs(shows_twins(*question, (rows, larger)), shown, seen)
+
+    def test_classes_of_what_lasts(self):
+        # The field lasts by the close, the key does not.
+        program = Program("kind a\n  field x\npass\n  open a\n    line l a.key p\n  close a\n    line m a.x")
+        question = (program, "m")
+        rows, table = twins(*question)
+        words, cells = ("A",), ((),)
+        for own, shown in ((("", "A"), True), (("", ""), True), (("A", ""), False), (("", "B"), False), (("", "p"), False)):
+            member = (words, (("", (), ()), ("a", own, ())), cells, ("l",))
+            larger = self.closed_with(question, table, member)
+            wrong = any({"l", "m"} <= set(seen) for _, _, _, seen in larger)
+            self.assertIs(shows_twins(*question, (rows, larger)), shown and not wrong, own)
+            member = (words, (("", (), ()), ("a", own, ())), cells, ("m",))
+            larger = self.closed_with(question, table, member)
+            self.assertIs(shows_twins(*question, (rows, larger)), shown, own)
+
     def test_cells(self):
         question = (TOLD, "h")
         rows, table = twins(*question)
