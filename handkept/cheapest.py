@@ -1,8 +1,9 @@
 """The cheapest marks and bars with which edits stay."""
 
+from handkept.edits import check_programs
 from handkept.errors import BadOffers, BadRules
 from handkept.offers import Asked, is_rules
-from handkept.stays import check_programs, check_sheet, check_wish, is_always, is_wrong, stays
+from handkept.stays import check_sheet, check_wish, is_always, is_wrong, stays
 from handkept.values import is_same, is_tuple_of
 
 

@@ -29,7 +29,8 @@ class EditForm:
         for ahead, row in zip(rows, rows[1:]):
             if not self.has_record(ahead[0], ahead[1], row):
                 return False
-        return all([has_used(self.walk.sides, row[1], row[4]) for row in rows])
+        namings = [side.names() for side in self.walk.sides]
+        return all([has_used(namings, row[1], row[4]) for row in rows])
 
     def has_record(self, outer_which, outer, row):
         which, kind, elder, newer, _ = row
@@ -38,7 +39,7 @@ class EditForm:
         if which not in ((outer_which,) if outer_which in ("gone", "come") else ("both", "gone", "come")):
             return False
         for side, is_there, words in zip(self.walk.sides, there(which), (elder, newer)):
-            if not (has_classes(side, kind, words) if is_there else words == ()):
+            if not (has_classes(side.names(), kind, words) if is_there else words == ()):
                 return False
         return True
 

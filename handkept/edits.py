@@ -39,16 +39,26 @@ def remembered(program, model, way, rule):
 
 def fate(elder, newer, sheet, elder_model, newer_model, way, rule):
     """What comes of an edit behind a change: (its fate, the number of the line found or None)."""
-    if elder.kinds != newer.kinds:
-        raise BadPrograms((elder, newer))
-    if not is_change(elder, sheet, elder_model, newer_model):
-        raise NoChange((elder_model, newer_model))
+    check_change(elder, newer, sheet, elder_model, newer_model)
     memory = remembered(elder, elder_model, way, rule)
     if memory is None:
         raise NotMade(way)
     lines = titled_lines(newer, newer_model, rule[2])
     found = found_by(lines, memory, rule)
     return (fate_by(found, first_of_way(lines, way)), found)
+
+
+def check_change(elder, newer, sheet, elder_model, newer_model):
+    """Refuses programs of other kinds, and what is no change by the sheet."""
+    check_programs(elder, newer)
+    if not is_change(elder, sheet, elder_model, newer_model):
+        raise NoChange((elder_model, newer_model))
+
+
+def check_programs(elder, newer):
+    """Refuses programs of other kinds."""
+    if elder.kinds != newer.kinds:
+        raise BadPrograms((elder, newer))
 
 
 def fate_by(found, meant):

@@ -114,7 +114,7 @@ class EditWalk:
 
     def records_anew(self, which, kind):
         sorts = [self.classes(which, kind, place) for place in range(len(self.fields[kind]))]
-        elder_side, newer_side = self.sides
+        elder_side, newer_side = [side.names() for side in self.sides]
         records = []
         for row in rows_of_classes(sorts):
             elder = tuple([pair[0] for pair in row]) if which != "come" else ()
@@ -126,7 +126,7 @@ class EditWalk:
     def classes(self, which, kind, place):
         """All (class in elder, class in newer) of a word of such records, "" in the one that does not have it."""
         ref = (kind, place)
-        named = [side.words_named(ref) if is_there else [] for side, is_there in zip(self.sides, there(which))]
+        named = [side.names().words_named(ref) if is_there else [] for side, is_there in zip(self.sides, there(which))]
         if ("turn", kind, self.fields[kind][place]) in self.sheet:
             return [(word, newer_word) for word in [""] + named[0] for newer_word in [""] + named[1]]
         either = [""] + named[0] + [word for word in named[1] if word not in named[0]]

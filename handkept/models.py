@@ -27,18 +27,23 @@ def text_of(program, model):
 
 def lines_of_part(part, model):
     """The list of (way, words) of the lines that one pass of a program writes."""
+    return [line for step in steps_of_part(part, model) for line in step]
+
+
+def steps_of_part(part, model):
+    """The list of what one pass writes at each begin, open, close and end: lists of (way, words)."""
     writing = Writing(part)
     writing.go_through(model)
-    return writing.lines
+    return writing.steps
 
 
 class Writing:
-    """One pass through a model: lines are those written so far."""
+    """One pass through a model: steps are what was written so far, block by block."""
 
     def __init__(self, part):
         self.blocks = part.blocks
         self.cells = [0] * len(part.worths)
-        self.lines = []
+        self.steps = []
 
     def go_through(self, model):
         near = {"": ()}
@@ -56,8 +61,8 @@ class Writing:
 
     def run(self, place, kind, paths, words):
         """Runs a block, where paths and words are those of the open records, by their kinds."""
-        for label, head, told in run_block(self.blocks[(place, kind)], self.cells, words):
-            self.lines.append(((label, paths[head]), told))
+        lines = run_block(self.blocks[(place, kind)], self.cells, words)
+        self.steps.append([((label, paths[head]), told) for label, head, told in lines])
 
 
 def _is_row(kinds, outer, value):

@@ -39,6 +39,15 @@ class OtherWords:
         return self.by_letter[word]
 
 
+def rebuilt(steps, known, sheet, uses):
+    """The elder and the newer model of all records that these (step, member) open."""
+    models = RebuiltModels(OtherWords(known), sheet, uses)
+    for step, _ in steps:
+        models.follow(step)
+    models.finish_all()
+    return models.models()
+
+
 class RebuiltModels:
     """An elder and a newer model, by the steps of a walk through both.
 

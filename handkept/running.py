@@ -19,6 +19,20 @@ def run_block(statements, cells, words):
     return lines
 
 
+def run_passes(program, block, cells, words):
+    """What a block of each pass writes: (cells behind it, lines), each line (number of the pass, label, words).
+
+    cells has, for each pass, the worths of its cells.
+    """
+    behind = []
+    lines = []
+    for number, part in enumerate(program.parts):
+        worths = list(cells[number])
+        lines.extend([(number, label, told) for label, _, told in run_block(part.blocks[block], worths, words)])
+        behind.append(tuple(worths))
+    return (tuple(behind), lines)
+
+
 def _worths(tokens, words):
     return tuple([words[kind][what] if kind else what for kind, what in tokens])
 

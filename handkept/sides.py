@@ -1,9 +1,7 @@
-"""One program in a walk through all models, for one guess of what is remembered.
+"""One program in a walk through all models, for one guess of what is remembered."""
 
-Words of records are told by their classes: the word itself if it is named for its REF, otherwise "".
-"""
-
-from handkept.running import run_block
+from handkept.naming import Naming
+from handkept.running import run_passes
 from handkept.uses import is_ref
 
 
@@ -48,46 +46,21 @@ class Side:
         self.program = program
         self.uses = uses
         self.hold = hold
-        self.named = {}
-        self.lasting = {}
+        self.naming = None
         self.runs = {}
-        self.is_asked = False
 
-    def ask(self):
+    def names(self):
+        """The naming by the tests and the lines that are held against the guess."""
         # Of most guesses nothing comes beyond the beginning: so this is not asked when they are made.
-        if self.is_asked:
-            return
-        self.is_asked = True
-        for kind, fields in self.uses.fields.items():
-            for place in range(len(fields)):
-                self.named[(kind, place)] = []
-                self.lasting[(kind, place)] = False
-        for ref, word, block in self.uses.tests:
-            self.name(ref, word, block)
-        for _, _, _, tokens, block in self.uses.writes:
-            for at, token in enumerate(tokens):
-                if is_ref(token):
-                    for word in self.hold.names_by(at, tokens):
-                        self.name(token, word, block)
-
-    def name(self, ref, word, block):
-        """A word is named for a REF by what stands in this block."""
-        if word not in self.named[ref]:
-            self.named[ref].append(word)
-        if block != ("open", ref[0]):
-            self.lasting[ref] = True
-
-    def words_named(self, ref):
-        self.ask()
-        return self.named[ref]
-
-    def lasts(self, ref):
-        self.ask()
-        return self.lasting[ref]
-
-    def lasting_words(self, kind, words):
-        """These classes of a record, "" where a REF does not last."""
-        return tuple([word if self.lasts((kind, place)) else "" for place, word in enumerate(words)])
+        if self.naming is None:
+            self.naming = Naming(self.uses)
+            self.naming.name_tests(self.uses)
+            for _, _, _, tokens, block in self.uses.writes:
+                for at, token in enumerate(tokens):
+                    if is_ref(token):
+                        for word in self.hold.names_by(at, tokens):
+                            self.naming.name(token, word, block)
+        return self.naming
 
     def run(self, block, cells, words):
         """Runs a block in each pass: (cells behind it, lines), each line (pass, label, fits, title behind).
@@ -101,11 +74,6 @@ class Side:
 
     def run_anew(self, block, cells, words):
         known = {kind: own for kind, own in zip(self.uses.chains[block[1]], words)}
-        behind = []
-        lines = []
-        for number, part in enumerate(self.program.parts):
-            worths = list(cells[number])
-            for label, _, told in run_block(part.blocks[block], worths, known):
-                lines.append((number, label, self.hold.fits(told), self.hold.title_behind(told)))
-            behind.append(tuple(worths))
-        return (tuple(behind), lines)
+        behind, lines = run_passes(self.program, block, cells, known)
+        return (behind, [(number, label, self.hold.fits(told), self.hold.title_behind(told))
+                         for number, label, told in lines])

@@ -1,9 +1,9 @@
 """Whether edits of a label stay, for every model and every change of it by a sheet."""
 
-from handkept.edits import fate, is_rule, is_way, remembered
+from handkept.edits import check_programs, fate, is_rule, is_way, remembered
 from handkept.editforms import EditForm
 from handkept.editwalks import EditWalk
-from handkept.errors import BadLabel, BadPrograms, BadRule, BadSheet, BadWish
+from handkept.errors import BadLabel, BadRule, BadSheet, BadWish
 from handkept.guesses import Guesses
 from handkept.judging import Judge
 from handkept.models import is_model
@@ -37,12 +37,6 @@ def shows_stays(elder, newer, sheet, label, rule, wish, value):
     if is_tuple_of(value, 5) and value[0] == "wrong":
         return is_wrong(elder, newer, sheet, label, rule, wish, value[1:])
     return False
-
-
-def check_programs(elder, newer):
-    """Refuses programs of other kinds."""
-    if elder.kinds != newer.kinds:
-        raise BadPrograms((elder, newer))
 
 
 def check_asked(program, labels, sheet, label, rule, wish):

@@ -2,43 +2,30 @@
 
 from handkept.errors import BadLabel
 from handkept.guesses import Guesses
+from handkept.labelrows import shows_rows, told_rows
 from handkept.models import is_model, written
-from handkept.reaching import MOST_WALKS, Reach, is_closed
-from handkept.rebuilding import OtherWords, RebuiltModels
+from handkept.reaching import MOST_WALKS
+from handkept.rebuilding import rebuilt
 from handkept.twinwalks import WHOLE, TwinWalk
 from handkept.uses import Uses
-from handkept.values import is_ascending, is_tuple_of
+from handkept.values import is_tuple_of
+
+NOTHING = (None,)
 
 
 def twins(program, label):
     """(rows, table): for each label a model in which a line of it is like another line of the label asked for."""
     check_label(program, label)
-    walks = TwinWalks(program, label)
-    reach = Reach(walks, True)
-    reach.go()
-    # Members came by the number of records that are opened on the way to them: the first one has the fewest.
-    rows = []
-    for other in program.labels:
-        with_pair = [member for member in reach.came if has_pair(member, label, other)]
-        rows.append((other, walks.model_by(reach.steps_to(with_pair[0])) if with_pair else None))
-    return (tuple(rows), reach.table())
+    return told_rows(TwinWalks(program, label), program.labels,
+                     lambda member, other: has_pair(member, label, other), NOTHING)
 
 
 def shows_twins(program, label, value):
     """Whether any value is such a result of twins, right by itself."""
     check_label(program, label)
-    if not is_tuple_of(value, 2):
-        return False
-    rows, table = value
-    if not is_tuple_of(rows, len(program.labels)) or not isinstance(table, tuple):
-        return False
-    walks = TwinWalks(program, label)
-    if not all([walks.has_member(member) for member in table]):
-        return False
-    for other, row in zip(program.labels, rows):
-        if not _is_row(program, label, other, table, row):
-            return False
-    return is_ascending(table) and is_closed(walks, table)
+    return shows_rows(TwinWalks(program, label), program.labels,
+                      lambda member, other: has_pair(member, label, other), NOTHING,
+                      lambda other, models: has_like_lines(program, models[0], label, other), value)
 
 
 def check_label(program, label):
@@ -54,16 +41,10 @@ def has_pair(member, label, other):
     return label in seen and other in seen
 
 
-def _is_row(program, label, other, table, row):
-    if not is_tuple_of(row, 2) or row[0] != other:
+def has_like_lines(program, model, label, other):
+    """Whether any value is a model in which a line of one label is like another line of the other one."""
+    if not is_model(program, model):
         return False
-    model = row[1]
-    if model is None:
-        return not any([has_pair(member, label, other) for member in table])
-    return is_model(program, model) and _has_like_lines(program, model, label, other)
-
-
-def _has_like_lines(program, model, label, other):
     lines = [(way[0], words) for way, words in written(program, model)]
     like = [words for own, words in lines if own == label]
     if label == other:
@@ -101,10 +82,6 @@ class TwinWalks:
         _, rows, cells, seen = value
         return self.walk_of(value).has(rows, cells, seen)
 
-    def model_by(self, steps):
-        """The model of all records that these (step, member) open."""
-        models = RebuiltModels(OtherWords(self.guesses.known), (), self.uses)
-        for step, _ in steps:
-            models.follow(step)
-        models.finish_all()
-        return models.models()[0]
+    def models_by(self, steps):
+        """The model of all records that these (step, member) open, twice."""
+        return rebuilt(steps, self.guesses.known, (), self.uses)
