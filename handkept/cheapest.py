@@ -38,7 +38,7 @@ def checked_choices(elder, newer, sheet, rules, offers, wish):
     check_sheet(elder, sheet)
     if not is_rules(elder, rules):
         raise BadRules(rules)
-    asked = Asked(elder, newer, sheet, rules)
+    asked = Asked((elder, newer), sheet, rules)
     if not asked.is_offers(offers):
         raise BadOffers(offers)
     check_wish(wish)
@@ -49,7 +49,7 @@ def _told(choice, asked, wish):
     """(tables, None) if all labels stay with a choice, otherwise (None, the reason against it)."""
     tables = []
     for label, rule in asked.rules:
-        told = stays(asked.elder, asked.newer, asked.sheet, label, rule, wish)
+        told = stays(*asked.programs, asked.sheet, label, rule, wish)
         if told[0] == "wrong":
             return (None, (choice, label, *told[1:]))
         tables.append(told[1])
@@ -59,7 +59,7 @@ def _told(choice, asked, wish):
 def _are_tables(asked, wish, value):
     if not is_tuple_of(value, len(asked.rules)):
         return False
-    return all([is_always(asked.elder, asked.newer, asked.sheet, label, rule, wish, table)
+    return all([is_always(*asked.programs, asked.sheet, label, rule, wish, table)
                 for (label, rule), table in zip(asked.rules, value)])
 
 
@@ -75,4 +75,6 @@ def _is_reason(choice, asked, wish, value):
     label = value[1]
     if label not in [own for own, _ in asked.rules]:
         return False
-    return is_wrong(asked.elder, asked.newer, asked.sheet, label, asked.rule_of(label), wish, value[2:])
+    rule = asked.rules_of(label)[0]
+    told = value[2:]
+    return is_wrong(*asked.programs, asked.sheet, label, rule, wish, told)

@@ -23,7 +23,12 @@ def is_way(labels, value):
     if not is_tuple_of(value, 2):
         return False
     label, path = value
-    return label in labels and isinstance(path, tuple) and all([_is_pair_of_words(pair) for pair in path])
+    return label in labels and is_path(path)
+
+
+def is_path(value):
+    """Whether any value is a path by its form: a tuple of pairs of words."""
+    return isinstance(value, tuple) and all([_is_pair_of_words(pair) for pair in value])
 
 
 def remembered(program, model, way, rule):

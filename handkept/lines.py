@@ -6,14 +6,14 @@ BLANKS = 2
 
 
 class Lines:
-    """The lines of a text, read one behind the other; at tells how many were read.
+    """Lines of a text, read one behind the other; at tells how many were read.
 
     A reader goes on by a line only if some right text begins so. Therefore what is wrong is always
     the line that comes next, or the want of one.
     """
 
-    def __init__(self, text):
-        self.lines = [_parted(line) for line in text.split("\n")]
+    def __init__(self, lines):
+        self.lines = [_parted(line) for line in lines]
         self.at = 0
 
     def words_at(self, depth):

@@ -20,16 +20,18 @@ def is_rules(program, value):
 
 
 class Asked:
-    """What is asked: whether these rules stay, of these programs, by this sheet."""
+    """What is asked: of these programs, by this sheet, with these rules, each (label, rule).
 
-    def __init__(self, elder, newer, sheet, rules):
-        self.elder = elder
-        self.newer = newer
+    A label may have several rules.
+    """
+
+    def __init__(self, programs, sheet, rules):
+        self.programs = programs
         self.sheet = sheet
         self.rules = rules
 
-    def rule_of(self, label):
-        return [rule for own, rule in self.rules if own == label][0]
+    def rules_of(self, label):
+        return [rule for own, rule in self.rules if own == label]
 
     def is_offers(self, value):
         """Whether any value is an ascending tuple of 1 to 6 (mark, price), each mark once and let by itself."""
@@ -44,35 +46,26 @@ class Asked:
         if not isinstance(mark, tuple) or len(mark) not in (2, 3):
             return False
         if mark[0] in ("still", "stop"):
-            return self.is_bar(mark)
-        if mark[1] not in [label for label, _ in self.rules]:
+            return len(mark) == 3 and barred(mark) in self.sheet
+        rules = self.rules_of(mark[1])
+        if not rules:
             return False
         if mark[0] in ("key", "name"):
             return self.changed((mark,)) is not None
-        word, skipped, under = self.rule_of(mark[1])
-        if len(mark) == 2:
-            return mark[0] == "only" and word != "only"
-        if mark[0] == "skip":
-            return is_integer(mark[2]) and 0 <= mark[2] <= LAST_PLACE and mark[2] not in skipped
-        return mark[0] == "under" and is_word(mark[2]) and mark[2] != under
-
-    def is_bar(self, mark):
-        if len(mark) == 2:
-            return False
-        return barred(mark) in self.sheet
+        return is_rule_mark(mark) and any([changed_rule(mark[1], rule, (mark,)) != rule for rule in rules])
 
     def changed(self, choice):
         """What is asked with the marks of a choice, None if a program would be none."""
-        marks = tuple([mark for mark in choice if mark[0] in ("key", "name")])
+        marks = [mark for mark in choice if mark[0] in ("key", "name")]
         try:
-            elder = with_marks(self.elder, marks)
-            newer = with_marks(self.newer, tuple([mark for mark in marks if mark[1] in self.newer.labels]))
+            programs = [with_marks(program, tuple([mark for mark in marks if mark[1] in program.labels]))
+                        for program in self.programs]
         except BadMarks:
             return None
         bars = [barred(mark) for mark in choice if mark[0] in ("still", "stop")]
         sheet = tuple([leave for leave in self.sheet if leave not in bars])
         rules = [(label, changed_rule(label, rule, choice)) for label, rule in self.rules]
-        return Asked(elder, newer, sheet, tuple(rules))
+        return Asked(tuple(programs), sheet, tuple(rules))
 
     def choices(self, offers):
         """All (price, choice, what is asked with it), in their sequence."""
@@ -97,13 +90,22 @@ def barred(mark):
     return ("turn", mark[1], mark[2]) if mark[0] == "still" else (mark[1], mark[2])
 
 
+def is_rule_mark(mark):
+    """Whether a mark of two or three is one that changes rules, whatever its label is."""
+    if len(mark) == 2:
+        return mark[0] == "only"
+    if mark[0] == "skip":
+        return is_integer(mark[2]) and 0 <= mark[2] <= LAST_PLACE
+    return mark[0] == "under" and is_word(mark[2])
+
+
 def changed_rule(label, rule, choice):
     """The rule of a label with the marks of a choice."""
     word, skipped, under = rule
     for mark in choice:
         if mark == ("only", label):
             word = "only"
-        elif mark[:2] == ("skip", label):
+        elif mark[:2] == ("skip", label) and mark[2] not in skipped:
             skipped = tuple(sorted([*skipped, mark[2]]))
         elif mark[:2] == ("under", label):
             under = mark[2]

@@ -43,7 +43,7 @@ class ProgramReader(Lines):
     """Reads a program: kinds and labels as a Program tells them, and its parts."""
 
     def __init__(self, text):
-        super().__init__(text)
+        super().__init__(text.split("\n"))
         self.kinds = []
         self.chains = {}
         self.fields = {}
