@@ -47,7 +47,7 @@ def done(state, order):
 
 def edits_of(state):
     """(number, way, rule, deed) of all edits that were not dropped."""
-    return tuple([edit[:4] for edit in state["hanging"]])
+    return tuple([own[:4] for own in state["hanging"]])
 
 
 def edited_lines(state):

@@ -83,7 +83,8 @@ def flat(row, path=()):
 
 def lead(history, programs, many):
     """So many drawn orders of all sorts."""
-    lines = written(history.keeper.program, history.keeper.model)
+    keeper = history.keeper
+    lines = [(keeper.way_at(at), words) for at, words in enumerate(keeper.text)]
     for _ in range(many):
         drawn = history.chance.random()
         if drawn < 0.4:
