@@ -44,6 +44,8 @@ WRONG = (
     "edit t town:rome first x - strike", "edit t town:rome first - 1 strike", "edit t town:rome first - - ahead",
     "edit t town:rome first - - ahead X", "edit t town:rome first - - ahead x  y", "edit t town:rome first - - away x",
     "edit  t town:rome first - - strike", "edit - town:rome first - - strike", "edit t  first - - strike",
+    "write t town:rome first - - strike", "go t town:rome first - - strike", "turn t town:rome first - - strike",
+    "drop t town:rome first - - strike", "undo t town:rome first - - strike", "t town:rome first - - strike",
     "way", "way ", "way -", "way -1", "way 01", "way 1000", "way 0 0", "way x", "way  0", "way 0 ", "way t", "Way 0", "way 1.0",
     "stays", "stays s", "stays s first - - kept", "stays s first - - kept ", "stays s last - - kept -", "stays s first - - kept - -",
     "stays S first - - kept -", "stays - first - - kept -", "stays s first 1, - kept -", "stays s first - - - -",

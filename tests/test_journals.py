@@ -233,6 +233,8 @@ class BadTexts(unittest.TestCase):
                 "  edit t town:rome first - - ahead -", "  edit t town:rome first - - behind", "  edit t town:rome first - - instead",
                 "  edit t town:rome first - - Strike", "  edit t town:rome first - - away x", "  edit t town:rome first - - x",
                 "  edit  t town:rome first - - strike", "  edit t town:rome first - - ahead x1",
+                "  write t town:rome first - - strike", "  go t town:rome first - - strike", "  turn t town:rome first - - strike",
+                "  drop t town:rome first - - strike", "  exchange t town:rome first - - strike",
                 "  exchange -", "  exchange ", "  come", "  come -", "  come - 0 0", "  come 0 -", "  come town 0", "  come - -", "  come - 01",
                 "  come - 1000", "  come - 0 ", "  come  - 0", "  come - -1", "  come - x", "  Come - 0"):
             self.refused(MANY + 1, *AHEAD, line)

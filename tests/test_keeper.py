@@ -625,6 +625,29 @@ class Trials(Refusing):
             keeper.write()
         self.assertEqual(told(keeper), ahead)
 
+    def test_keep_ahead_of_the_block(self):
+        keeper = self.keeper()
+        ahead = told(keeper), undone_of(keeper)
+        trial = keeper.trial()
+        trial.keep()
+        with trial:
+            self.orders(keeper)
+        self.assertEqual((told(keeper), undone_of(keeper)), ahead)
+
+    def test_a_trial_that_stands_in_two_statements(self):
+        keeper = self.keeper()
+        with keeper.trial() as trial:
+            keeper.write()
+            trial.keep()
+        ahead = told(keeper), undone_of(keeper)
+        with trial as again:
+            self.orders(keeper)
+        self.assertEqual((told(keeper), undone_of(keeper)), ahead)
+        with again:
+            self.orders(keeper)
+            again.keep()
+        self.assertEqual(len(keeper.orders), len(ahead[0][5]) + 4)
+
     def test_keep_behind_the_block(self):
         keeper = self.keeper()
         ahead = told(keeper)

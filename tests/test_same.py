@@ -43,6 +43,8 @@ AT_CLOSE = [one_kind("close a", "  line l a.x"), one_kind("open a", "  if a.x is
 ELSE = both(["if a.x is p", "  line l p", "else", "  line m q"], ["if a.x is p", "  line l p", "line m q"])
 FURTHER = [chained("open a", "  line t a.key", "open c", "  if a.x is p", "    line l c.key", "  line m b.x"),
            chained("open a", "  line t a.key", "open c", "  if b.x is q", "    line l c.key", "  line m b.x")]
+NAMED = [Program("kind a\n  field x\nkind b in a\n  field x\npass\n  open a\n    if a.key is p\n      line l a.x\n"
+                 f"  open b\n    if b.key is p\n      line m b.x\n    if a.x is q\n      line n {token}") for token in ("b.x", "q")]
 OUTER_TOKEN = [chained("open a", "  if a.x is p", "    line t p", "open c", "  if b.x is q", "    line l q a.x", "  line m b.x"),
                chained("open a", "  if a.x is p", "    line t a.x", "open c", "  if b.x is q", "    line l b.x a.x",
                        "    line m q", "  else", "    line n b.x")]
@@ -186,6 +188,15 @@ class Told(unittest.TestCase):
         for label, model in same(elder, newer)[0]:
             self.assertIn(label, told_unlike(elder, newer, model))
 
+    def test_words_that_programs_test_are_no_other_words(self):
+        for word in ("a", "b", "c", "d"):
+            elder = one_kind("open a", f"  if a.x is {word}", "    line m p", "  else", "    line l p")
+            newer = one_kind("open a", f"  if a.x is {word}", "    line m p", "  else", "    line l q")
+            for question in ((elder, newer), (newer, elder)):
+                told = same(*question)
+                self.assertEqual([label for label, model in told[0] if model is not None], ["l"])
+                self.assertIs(shows_same(*question, told), True)
+
     def test_too_many(self):
         words = [one + other for one in "abc" for other in "abcd"]
         lines = [line for word in words for line in ("    if a.key is " + word, "      line l" + word + " a.x")]
@@ -272,6 +283,8 @@ class Shown(unittest.TestCase):
             self.assertIs(shows_same(*CELLS, (rows, larger)), shown, cells)
             self.assertIs(shows_same(*CELLS, (rows, closed_with(CELLS, ((), cells, ())))), True, cells)
             self.assertIs(shows_same(*CELLS, (rows, closed_with(CELLS, ((), cells, ("l",))))), False, cells)
+        for cells in (((2,),), ((0,),)), (((0,),), ((3,),)), (((-1,),), ((0,),)):
+            self.assertIs(shows_same(*CELLS, (rows, closed_with(CELLS, ((), cells, ())))), False, cells)
 
     def test_members_that_are_not_of_the_form(self):
         question = FURTHER
@@ -300,6 +313,29 @@ class Shown(unittest.TestCase):
             except TypeError:
                 larger = (*table, member)
             self.assertIs(shows_same(*question, (rows, larger)), False, member)
+
+    def test_used_keys_by_the_form(self):
+        # The keys p of both kinds are named; a stands in none, b in a.
+        question = NAMED
+        rows, table = same(*question)
+        cells = (((),), ((),))
+        for names, inner, shown in (
+                ((), (), True), ((("a", "p"),), (), True), ((), (("b", "p"),), True), ((("a", "p"),), (("b", "p"),), True),
+                ((("b", "p"),), (), False), ((), (("a", "p"),), False), ((("a", "q"),), (), False), ((("a", ""),), (), False),
+                ((("c", "p"),), (), False), ((("", "p"),), (), False), ((("a", "p"), ("a", "p")), (), False),
+                ((("a", "p", "p"),), (), False), ((("a",),), (), False), (((),), (), False), ((), (("b", "p"), ("b", "p")), False)):
+            larger = closed_with(question, ((("", (), names), ("a", ("", ""), inner)), cells, ()))
+            self.assertIs(shows_same(*question, (rows, larger)), shown, (names, inner))
+
+    def test_classes_by_the_form(self):
+        # The key is named, and does not last; the field lasts.
+        question = NAMED
+        rows, table = same(*question)
+        cells = (((),), ((),))
+        for words, shown in ((("", ""), True), (("", "q"), True), (("p", ""), False), (("p", "q"), False), (("", "p"), False),
+                             (("", "r"), False), (("", "", ""), False)):
+            larger = closed_with(question, ((("", (), ()), ("a", words, ())), cells, ()))
+            self.assertIs(shows_same(*question, (rows, larger)), shown, words)
 
     def test_labels_that_newer_alone_has_are_none_of_the_form(self):
         rows, table = same(WITHOUT, TWICE)

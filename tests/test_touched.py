@@ -39,6 +39,8 @@ THREE = one_kind("cell c 3", "open a", "  if c = 2", "    line l p", "  if c = 1
                  "    if c = 0", "      set c 1", "end", "  if c = 1", "    line e p")
 PASSES = one_kind("cell c 2", "open a", "  if a.x is p", "    set c 1", "end", "  if c = 1", "    line l p", "pass",
                   "cell c 2", "open a", "  line m a.key a.x", "end", "  if c = 1", "    line n p")
+KEYED = Program("kind a\n  field x\nkind b in a\n  field x\npass\n  open a\n    if a.key is p\n      line l a.x\n"
+                "  open b\n    if b.key is p\n      line m b.x\n    if a.x is q\n      line n b.x")
 UNDONE = one_kind("cell c 2", "open a", "  if a.x is p", "    set c 1", "  else", "    set c 1", "end", "  if c = 1",
                   "    line l p")
 
@@ -197,6 +199,15 @@ class Told(unittest.TestCase):
         program = Program("\n".join(["kind a", "kind b in a", "  field x", "pass", "  cell c 2", *lines]))
         self.assertEqual(many_records(*touched(program, "b", "x")[0][0][1:]), 4)
 
+    def test_words_that_programs_test_are_no_other_words(self):
+        for words in ("ab", "bc", "cd", "da"):
+            one, other = words
+            program = one_kind("open a", f"  if a.x is {one}", "    line l p", f"  if a.key is {other}", "    line m p", "  else",
+                               "    line n a.x")
+            told = touched(program, "a", "x")
+            self.assertEqual([row[0] for row in told[0] if row[1] is not None], ["l", "n"])
+            self.assertIs(shows_touched(program, "a", "x", told), True)
+
     def test_too_many(self):
         words = [one + other for one in "abc" for other in "abcd"]
         lines = [line for word in words for line in ("    if a.key is " + word, "      line l" + word + " a.x")]
@@ -271,6 +282,12 @@ class Shown(unittest.TestCase):
                 ((("a", ("k", "u"), (("b", ("k", "r", "q"), (("c", ("k",), ()),)),)),), False),
                 ((("a", ("k", "u"), ()),), False), (elder, False)):
             self.assertIs(self.with_models(question, "l", elder, newer), shown, newer)
+
+    def test_a_field_of_another_kind(self):
+        elder, newer = [(("a", ("k", "u"), (("b", ("k", word, "q"), ()),)),) for word in "vw"]
+        self.assertIs(self.with_models((FAR, "b", "x"), "i", elder, newer), True)
+        self.assertIs(self.with_models((FAR, "b", "y"), "i", elder, newer), False)
+        self.assertIs(self.with_models((FAR, "a", "x"), "i", elder, newer), False)
 
     def test_a_record_that_moves(self):
         # The records are the same, in other rows.
@@ -365,17 +382,75 @@ class Shown(unittest.TestCase):
         first, cells = (False, "", (), (), ()), (((),), ((),))
         for is_turned, words, newer, shown in (
                 (True, "p", "", True), (True, "", "p", True), (True, "", "", True), (True, "p", "p", False),
-                (False, "p", "p", True), (False, "", "", True), (False, "", "p", False), (True, "q", "", False)):
+                (False, "p", "p", True), (False, "", "", True), (False, "", "p", False), (True, "q", "", False),
+                (True, "", "q", False), (False, "q", "q", False)):
             own = (is_turned, "a", ("", words), ("", newer), ())
             member = ((first, own), cells, "within" if is_turned else "behind", ("m",))
-            larger = closed_with(question, member) if shown else tuple(sorted({*table, member}))
+            larger = closed_with(question, member)
             self.assertIs(shows_touched(*question, (rows, larger)), shown, own)
+
+    def test_rows_by_the_form(self):
+        # With all that comes of these members.
+        question = (KEYED, "b", "x")
+        rows, table = touched(*question)
+        cells = (((),), ((),))
+        first, a, b = (False, "", (), (), ()), (False, "a", ("", ""), ("", ""), ()), (True, "b", ("", ""), ("", ""), ())
+        for opened, phase, shown in (
+                ((first, a), "behind", True), ((first, a), "ahead", True), ((first, a, b), "within", True), ((), "behind", True),
+                ((), "ahead", True), ((first, a), "", False), ((first,), "past", False), ((), "", False), ((), "within", False),
+                ((first,), "within", False), ((first, a), "within", False), ((first, a, b), "behind", False), ((first, a, b), "ahead", False),
+                (((False, "b", ("", ""), ("", ""), ()),), "behind", False),
+                (((False, "", ("",), ("",), ()),), "behind", False), ((first, (True, *a[1:])), "within", False),
+                ((first, (False, *b[1:])), "behind", False), ((first, a, (False, *b[1:])), "behind", True)):
+            larger = closed_with(question, (opened, cells, phase, ()))
+            self.assertIs(shows_touched(*question, (rows, larger)), shown, (opened, phase))
+
+    def test_records_of_other_kinds_do_not_turn(self):
+        question = (FAR, "a", "x")
+        rows, table = touched(*question)
+        cells = (((),), ((),))
+        for is_turned, phase in ((True, "within"), (False, "behind")):
+            member = (((False, "", (), (), ()), (is_turned, "d", ("", ""), ("", ""), ())), cells, phase, ())
+            larger = closed_with(question, member)
+            self.assertIs(shows_touched(*question, (rows, larger)), not is_turned)
+
+    def test_used_keys_by_the_form(self):
+        # The keys p of both kinds are named; a stands in none, b in a.
+        question = (KEYED, "a", "x")
+        rows, table = touched(*question)
+        cells = (((),), ((),))
+        a = (False, "a", ("", ""), ("", ""))
+        for names, inner, shown in (
+                ((), (), True), ((("a", "p"),), (), True), ((), (("b", "p"),), True), ((("a", "p"),), (("b", "p"),), True),
+                ((("b", "p"),), (), False), ((), (("a", "p"),), False), ((("a", "q"),), (), False), ((("a", ""),), (), False),
+                ((("c", "p"),), (), False), ((("", "p"),), (), False), ((("a", "p"), ("a", "p")), (), False),
+                ((("a", "p", "p"),), (), False), ((("a",),), (), False), (((),), (), False), ((), (("b", "p"), ("b", "p")), False)):
+            rest = (cells, "behind", ())
+            larger = closed_with(question, (((False, "", (), (), names), (*a, inner)), *rest))
+            self.assertIs(shows_touched(*question, (rows, larger)), shown, (names, inner))
+
+    def test_classes_by_the_form(self):
+        # The key is named, and does not last; the field lasts.
+        question = (KEYED, "b", "x")
+        rows, table = touched(*question)
+        cells = (((),), ((),))
+        for words, shown in ((("", ""), True), (("", "q"), True), (("p", ""), False), (("p", "q"), False), (("", "p"), False),
+                             (("", "r"), False), (("", "", ""), False)):
+            member = (((False, "", (), (), ()), (False, "a", words, words, ())), cells, "behind", ())
+            larger = closed_with(question, member)
+            self.assertIs(shows_touched(*question, (rows, larger)), shown, words)
 
     def test_numbers_for_bools(self):
         rows, table = touched(TOWN, "shop", "owner")
         other = tuple((tuple((int(row[0]), *row[1:]) for row in opened), *rest) for opened, *rest in table)
         self.assertEqual(other, table)
         self.assertIs(shows_touched(TOWN, "shop", "owner", (rows, other)), False)
+        for at in range(3):
+            # In the rows of one depth alone.
+            other = tuple((tuple((int(row[0]), *row[1:]) if depth == at else row for depth, row in enumerate(opened)), *rest)
+                          for opened, *rest in table)
+            self.assertEqual(other, table)
+            self.assertIs(shows_touched(TOWN, "shop", "owner", (rows, other)), False, at)
 
     def test_bools_for_worths(self):
         rows, table = touched(TOLD, "a", "x")

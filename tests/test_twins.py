@@ -247,6 +247,19 @@ class Shown(unittest.TestCase):
             larger = self.closed_with(question, table, member)
             self.assertIs(shows_twins(*question, (rows, larger)), shown, own)
 
+    def test_used_keys_by_the_form(self):
+        # A is named for the keys of both kinds; a stands in none, b in a.
+        question = (Program("kind a\nkind b in a\npass\n  open a\n    line l a.key\n  open b\n    line m b.key"), "l")
+        rows, table = twins(*question)
+        words, cells = ("A",), ((),)
+        for names, inner, shown in (
+                ((), (), True), ((("a", "A"),), (), True), ((), (("b", "A"),), True), ((("a", "A"),), (("b", "A"),), True),
+                ((("b", "A"),), (), False), ((), (("a", "A"),), False), ((("a", "B"),), (), False), ((("a", ""),), (), False),
+                ((("c", "A"),), (), False), ((("", "A"),), (), False), ((("a", "A"), ("a", "A")), (), False),
+                ((("a", "A", "A"),), (), False), ((("a",),), (), False), (((),), (), False), ((), (("b", "A"), ("b", "A")), False)):
+            larger = self.closed_with(question, table, (words, (("", (), names), ("a", ("",), inner)), cells, ()))
+            self.assertIs(shows_twins(*question, (rows, larger)), shown, (names, inner))
+
     def test_cells(self):
         question = (TOLD, "h")
         rows, table = twins(*question)
